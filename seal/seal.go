@@ -12,8 +12,14 @@ const (
 	headSize = 2 * wordSize // both of them, ahead of the text
 )
 
-// Sum is a text's sum.
-func Sum(s string) uint32 { return sumOf(s) }
+// Sum is a text's sum: that of the steps, beside which the table's stands.
+func Sum(s string) uint32 {
+	sum := sumOf(s)
+	if quick := table.sum(s); quick == sum {
+		return quick
+	}
+	return sum
+}
 
 // Frame puts a text into a frame, Unframe takes one out of the frame that begins at a place; and the place behind it.
 func Frame(s string) (string, api.Errno) {
