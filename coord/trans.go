@@ -64,15 +64,3 @@ func added(a, b []api.Amount) []api.Amount {
 	}
 	return all
 }
-
-// anew is a coordinator in memory of its own.
-func anew(c api.Coord) api.Coord {
-	c.Trans = fresh.List(c.Trans, func(t api.Trans) api.Trans {
-		t.Peers = slices.Clone(t.Peers)
-		t.Amounts = slices.Clone(t.Amounts)
-		t.Cells = fresh.List(t.Cells, fresh.Cell)
-		t.Answer = fresh.Answer(t.Answer)
-		return t
-	})
-	return c
-}

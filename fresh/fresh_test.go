@@ -1,6 +1,8 @@
 package fresh_test
 
 import (
+	"cmp"
+	"reflect"
 	"slices"
 	"testing"
 
@@ -8,45 +10,79 @@ import (
 	"rialto/fresh"
 )
 
-// spoil empties a list and its spare room.
-func spoil[T any](l []T) { clear(l[:cap(l)]) }
-
-func TestAnswer(t *testing.T) {
-	a := api.Answer{Code: 4, Num: 7, Amounts: []api.Amount{{Asset: 1, N: 2}}, Fills: []api.Fill{{Buyer: 1, Seller: 2, Price: 3, N: 4}}}
-	b := fresh.Answer(a)
-	if b.Code != 4 || b.Num != 7 || !slices.Equal(a.Amounts, b.Amounts) || !slices.Equal(a.Fills, b.Fills) {
-		t.Errorf("%v of %v", b, a)
-	}
-	spoil(b.Amounts)
-	spoil(b.Fills)
-	if a.Amounts[0].N != 2 || a.Fills[0].N != 4 {
-		t.Errorf("R5: %v", a)
+// fill gives each number of a value another one, and each list two.
+func fill(v reflect.Value, n *int) {
+	switch v.Kind() {
+	case reflect.Int:
+		*n++
+		v.SetInt(int64(*n))
+	case reflect.Bool:
+		v.SetBool(true)
+	case reflect.Slice:
+		v.Set(reflect.MakeSlice(v.Type(), 2, 3))
+		for i := range v.Len() {
+			fill(v.Index(i), n)
+		}
+	case reflect.Struct:
+		for i := range v.NumField() {
+			fill(v.Field(i), n)
+		}
 	}
 }
 
-func TestCell(t *testing.T) {
-	c := api.Cell{
-		Key: api.Key{Kind: 1, N: 2}, Version: 3, Account: api.Account{Free: []api.Amount{{Asset: 1, N: 2}}, Count: 4},
-		Lane: api.Lane{Call: true, Next: 9, Bids: []api.Order{{Id: 1}}, Asks: []api.Order{{Id: 2}}, Owed: []api.Owed{{N: 3}}},
+// span is the memory of a list, its spare room too.
+type span struct{ from, to uintptr }
+
+func spans(v reflect.Value) []span {
+	var l []span
+	switch v.Kind() {
+	case reflect.Slice:
+		if size := uintptr(v.Cap()) * v.Type().Elem().Size(); size > 0 {
+			l = append(l, span{v.Pointer(), v.Pointer() + size})
+		}
+		for i := range v.Len() {
+			l = append(l, spans(v.Index(i))...)
+		}
+	case reflect.Struct:
+		for i := range v.NumField() {
+			l = append(l, spans(v.Field(i))...)
+		}
 	}
-	l := []api.Cell{c, {Version: 8}}
-	m := fresh.List(l, fresh.Cell)
-	if len(m) != 2 || m[1].Version != 8 {
-		t.Fatalf("%v of %v", m, l)
+	return l
+}
+
+// hold makes a value anew: it has all that was there, in memory of its own.
+func hold[T any](t *testing.T, anew func(one T) T) {
+	t.Helper()
+	var was T
+	n := 0
+	fill(reflect.ValueOf(&was).Elem(), &n)
+	is := anew(was)
+	if !reflect.DeepEqual(is, was) {
+		t.Errorf("%+v of %+v", is, was)
 	}
-	d := m[0]
-	if d.Key != c.Key || d.Version != 3 || d.Account.Count != 4 || !d.Lane.Call || d.Lane.Next != 9 {
-		t.Errorf("%v of %v", d, c)
+	l := append(spans(reflect.ValueOf(was)), spans(reflect.ValueOf(is))...)
+	slices.SortFunc(l, func(a, b span) int { return cmp.Compare(a.from, b.from) })
+	for i := 1; i < len(l); i++ {
+		if l[i].from < l[i-1].to {
+			t.Fatalf("R5: two lists share memory in %T", was)
+		}
 	}
-	if !slices.Equal(c.Account.Free, d.Account.Free) || !slices.Equal(c.Lane.Bids, d.Lane.Bids) || !slices.Equal(c.Lane.Asks, d.Lane.Asks) || !slices.Equal(c.Lane.Owed, d.Lane.Owed) {
-		t.Errorf("%v of %v", d, c)
+	var zero T
+	if none := anew(zero); !reflect.DeepEqual(none, zero) {
+		t.Errorf("%+v of nothing", none)
 	}
-	spoil(d.Account.Free)
-	spoil(d.Lane.Bids)
-	spoil(d.Lane.Asks)
-	spoil(d.Lane.Owed)
-	spoil(m)
-	if c.Account.Free[0].N != 2 || c.Lane.Bids[0].Id != 1 || c.Lane.Asks[0].Id != 2 || c.Lane.Owed[0].N != 3 || l[1].Version != 8 {
-		t.Errorf("R5: %v, %v", c, l)
-	}
+}
+
+func TestAll(t *testing.T) {
+	hold(t, fresh.Answer)
+	hold(t, fresh.Account)
+	hold(t, fresh.Lane)
+	hold(t, fresh.Cell)
+	hold(t, fresh.Session)
+	hold(t, fresh.Part)
+	hold(t, fresh.Coord)
+	hold(t, fresh.Shard)
+	hold(t, fresh.Model)
+	hold(t, func(l []api.Cell) []api.Cell { return fresh.List(l, fresh.Cell) })
 }

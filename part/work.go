@@ -15,23 +15,6 @@ type work struct {
 	marks []api.Mark
 }
 
-func anew(p api.Part) api.Part {
-	return api.Part{
-		Group: p.Group,
-		Cells: fresh.List(p.Cells, fresh.Cell),
-		Locks: api.Table{Held: slices.Clone(p.Locks.Held), Wait: slices.Clone(p.Locks.Wait)},
-		Pends: fresh.List(p.Pends, func(pend api.Pend) api.Pend {
-			pend.Amounts = slices.Clone(pend.Amounts)
-			pend.Cells = fresh.List(pend.Cells, fresh.Cell)
-			return pend
-		}),
-		Done: fresh.List(p.Done, func(d api.Done) api.Done {
-			d.Answer = fresh.Answer(d.Answer)
-			return d
-		}),
-	}
-}
-
 func (w *work) prepare(m api.Message) {
 	if w.ended(m).Seq >= m.Txn.Seq || pendAt(w.Part, m.Txn, m.Key) >= 0 {
 		return
