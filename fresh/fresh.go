@@ -40,6 +40,17 @@ func Cell(c api.Cell) api.Cell {
 	return c
 }
 
+func Message(m api.Message) api.Message {
+	m.Answer = Answer(m.Answer)
+	m.Cells = List(m.Cells, Cell)
+	return m
+}
+
+func Event(e api.Event) api.Event {
+	e.Answer = Answer(e.Answer)
+	return e
+}
+
 func Session(s api.Session) api.Session {
 	s.Answer = Answer(s.Answer)
 	return s

@@ -79,6 +79,8 @@ func TestAll(t *testing.T) {
 	hold(t, fresh.Account)
 	hold(t, fresh.Lane)
 	hold(t, fresh.Cell)
+	hold(t, fresh.Message)
+	hold(t, fresh.Event)
 	hold(t, fresh.Session)
 	hold(t, fresh.Part)
 	hold(t, fresh.Coord)
